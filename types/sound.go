@@ -1,6 +1,9 @@
 package types
 
-import "mullion/api"
+import (
+	"mullion/api"
+	"mullion/letter"
+)
 
 // size is what of a type the limits are for.
 type size struct {
@@ -49,7 +52,7 @@ func isFormed(t api.Type) bool {
 	switch t.Kind {
 	case api.TBool, api.TInt8, api.TUint8, api.TInt32, api.TUint32, api.TInt64, api.TUint64:
 	case api.TStruct:
-		ok = isName(t.Name) && areFields(t.Fields)
+		ok = letter.IsName(t.Name) && areFields(t.Fields)
 		rest.Name, rest.Fields = "", nil
 	case api.TSlice, api.TChan:
 		ok = len(t.List) == 1
@@ -58,7 +61,7 @@ func isFormed(t api.Type) bool {
 		ok = len(t.List) <= api.MaxParams && len(t.Res) <= 1
 		rest.List, rest.Res = nil, nil
 	case api.TParam:
-		ok = isName(t.Name) && api.CAny <= t.Con && t.Con <= api.CInteger
+		ok = letter.IsName(t.Name) && api.CAny <= t.Con && t.Con <= api.CInteger
 		rest.Name, rest.Con = "", 0
 	default:
 		return false
@@ -73,34 +76,10 @@ func areFields(fields []api.Field) bool {
 	}
 	seen := map[string]int{}
 	for _, f := range fields {
-		if !isName(f.Name) || seen[f.Name] > 0 {
+		if !letter.IsName(f.Name) || seen[f.Name] > 0 {
 			return false
 		}
 		seen[f.Name]++
 	}
 	return true
-}
-
-// isName tells whether s is a name. A byte that belongs to no character is told by the range as U+FFFD, which is no letter.
-func isName(s string) bool {
-	if s == "" || len(s) > api.MaxName {
-		return false
-	}
-	for i, c := range s {
-		if !isLetter(c) && (i == 0 || c < '0' || '9' < c) {
-			return false
-		}
-	}
-	return true
-}
-
-// isLetter tells whether c is a letter of names. The signs of multiplication (D7) and of division (F7) stand among the letters and are none.
-func isLetter(c rune) bool {
-	switch {
-	case 'A' <= c && c <= 'Z', 'a' <= c && c <= 'z', c == '_':
-		return true
-	case c == 0xD7, c == 0xF7:
-		return false
-	}
-	return 0xC0 <= c && c <= 0x24F
 }
