@@ -3,6 +3,7 @@ package parse
 import (
 	"mullion/api"
 	"mullion/node"
+	"mullion/strength"
 )
 
 // expression reads an expression.
@@ -19,30 +20,13 @@ func (r *reader) inner() api.Node {
 func (r *reader) binary(least int) api.Node {
 	left := r.unary()
 	for {
-		strength := binds(r.token().Text)
-		if strength < least {
+		binds := strength.Of(r.token().Text)
+		if binds < least {
 			return left
 		}
 		op := r.take()
-		left = api.Node{Kind: node.Operator, Text: op.Text, At: op.At, List: []api.Node{left, r.binary(strength + 1)}}
+		left = api.Node{Kind: node.Operator, Text: op.Text, At: op.At, List: []api.Node{left, r.binary(binds + 1)}}
 	}
-}
-
-// binds tells how strong an operator of two binds; 0: that is none.
-func binds(sign string) int {
-	switch sign {
-	case "*", "/", "%", "<<", ">>", "&", "&^":
-		return 5
-	case "+", "-", "|", "^":
-		return 4
-	case "==", "!=", "<", "<=", ">", ">=":
-		return 3
-	case "&&":
-		return 2
-	case "||":
-		return 1
-	}
-	return 0
 }
 
 // unary reads an operand with the operators of one ahead of it.
