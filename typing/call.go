@@ -1,4 +1,4 @@
-package check
+package typing
 
 import (
 	"mullion/api"
@@ -58,7 +58,7 @@ func (c *checker) arguments(n api.Node, many int) []value {
 }
 
 // conversion answers the type whose name, called, converts to it; nil: that is no such name.
-func (c *checker) conversion(name string) *typ {
+func (c *checker) conversion(name string) *Type {
 	if t := c.typeParams[name]; t != nil && t.isWhole() {
 		return t
 	}
@@ -69,7 +69,7 @@ func (c *checker) conversion(name string) *typ {
 }
 
 // convert answers the number in the type t that the one argument of n is.
-func (c *checker) convert(n api.Node, t *typ) value {
+func (c *checker) convert(n api.Node, t *Type) value {
 	v := c.arguments(n, 1)[0]
 	if v.isConstant {
 		return c.fit(n.List[1], v, t)
@@ -103,32 +103,32 @@ func (c *checker) callBuiltIn(n api.Node, name string) value {
 }
 
 // generic answers the function with type parameters whose type arguments stand in n; nil: n is nothing such.
-func (c *checker) generic(n api.Node) *head {
+func (c *checker) generic(n api.Node) *Head {
 	if n.Kind != node.Index || !c.isFree(n.List[0]) {
 		return nil
 	}
 	h := c.functions[n.List[0].Text]
-	if h == nil || len(h.typeParams) == 0 {
+	if h == nil || len(h.TypeParams) == 0 {
 		return nil
 	}
 	return h
 }
 
 // typeArguments answers what the type parameters of h stand for by the types in the brackets of n.
-func (c *checker) typeArguments(n api.Node, h *head) stands {
+func (c *checker) typeArguments(n api.Node, h *Head) stands {
 	written := n.List[1:]
-	if len(written) != len(h.typeParams) {
+	if len(written) != len(h.TypeParams) {
 		panic(fault{n.At, api.ErrInfer})
 	}
 	found := stands{}
-	for i, p := range h.typeParams {
+	for i, p := range h.TypeParams {
 		found[p.name] = c.typeArgument(written[i])
 	}
 	return found
 }
 
 // typeArgument answers the type that stands in brackets, where a name is an expression in the tree.
-func (c *checker) typeArgument(n api.Node) *typ {
+func (c *checker) typeArgument(n api.Node) *Type {
 	switch n.Kind {
 	case node.Name:
 		return c.typeNamed(n)
@@ -139,30 +139,43 @@ func (c *checker) typeArgument(n api.Node) *typ {
 }
 
 // callFunction answers what comes of a function of the program. Its type parameters stand for what is found by now, or, if that is nil, for what the arguments tell.
-func (c *checker) callFunction(n api.Node, h *head, found stands) value {
-	arguments := c.arguments(n, len(h.takes))
+func (c *checker) callFunction(n api.Node, h *Head, found stands) value {
+	// The function stands ahead of what its arguments name, though its type arguments are known behind them.
+	place := len(c.needs)
+	c.needs = append(c.needs, Need{Of: h})
+	arguments := c.arguments(n, len(h.Takes))
 	if found == nil {
-		found = c.infer(n, arguments, h.takes)
+		found = c.infer(n, arguments, h.Takes)
 	}
-	for _, p := range h.typeParams {
-		if found[p.name] == nil {
-			panic(fault{n.At, api.ErrInfer})
-		}
-		if !found[p.name].meets(p.con) {
-			panic(fault{n.At, api.ErrType})
-		}
-	}
+	c.needs[place].Args = c.constrained(n, h, found)
+	replace := c.types.replacer(found)
 	for i, v := range arguments {
-		c.fit(n.List[i+1], v, c.replaced(n, h.takes[i], found))
+		c.fit(n.List[i+1], v, c.sound(n, replace(h.Takes[i])))
 	}
-	if h.gives == nil {
+	if h.Gives == nil {
 		return value{}
 	}
-	return typed(c.replaced(n, h.gives, found))
+	return typed(c.sound(n, replace(h.Gives)))
+}
+
+// constrained answers what the type parameters of h, which n calls, stand for, in their order, and asks that each is known and fits its constraint.
+func (c *checker) constrained(n api.Node, h *Head, found stands) []*Type {
+	var args []*Type
+	for _, p := range h.TypeParams {
+		arg := found[p.name]
+		if arg == nil {
+			panic(fault{n.At, api.ErrInfer})
+		}
+		if !arg.meets(p.con) {
+			panic(fault{n.At, api.ErrType})
+		}
+		args = append(args, arg)
+	}
+	return args
 }
 
 // infer answers what type parameters stand for by the arguments of n: first by those that have a type, as a constant takes what is known then.
-func (c *checker) infer(n api.Node, arguments []value, takes []*typ) stands {
+func (c *checker) infer(n api.Node, arguments []value, takes []*Type) stands {
 	found := stands{}
 	for i, v := range arguments {
 		if v.t != nil && !found.match(takes[i], v.t) {
@@ -175,9 +188,4 @@ func (c *checker) infer(n api.Node, arguments []value, takes []*typ) stands {
 		}
 	}
 	return found
-}
-
-// replaced answers a type in the head of what n calls, with what the type parameters stand for there.
-func (c *checker) replaced(n api.Node, t *typ, found stands) *typ {
-	return c.sound(n, c.types.replace(t, found))
 }

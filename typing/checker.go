@@ -1,4 +1,4 @@
-package check
+package typing
 
 import "mullion/api"
 
@@ -6,27 +6,35 @@ import "mullion/api"
 type checker struct {
 	types      table
 	declared   map[string]int   // how often the names of struct types and functions are declared
-	structs    map[string]*typ  // the struct types that may be named by now
-	functions  map[string]*head // all functions
-	typeParams map[string]*typ  // those of the function that is gone through
+	structs    map[string]*Type // the struct types that may be named by now
+	functions  map[string]*Head // all functions
+	typeParams map[string]*Type // those of the function that is gone through
+	needs      []Need           // of that function, by now
 	scopes     []scope          // those that are open, the innermost last
 	within     function
 }
 
-// head is what is known of a function outside of it.
-type head struct {
-	name       string
-	typeParams []*typ
-	takes      []*typ
-	gives      *typ // nil: nothing comes of it
+// Head is what is known of a function outside of it, and which functions it needs.
+type Head struct {
+	Name       string
+	TypeParams []*Type
+	Takes      []*Type
+	Gives      *Type  // nil: nothing comes of it
+	Needs      []Need // in the order in which they stand in its block
+}
+
+// Need is a function that is named, to be called or as a value, and what its type parameters stand for there.
+type Need struct {
+	Of   *Head
+	Args []*Type
 }
 
 // scope holds the variables that are declared in it.
-type scope map[string]*typ
+type scope map[string]*Type
 
 // function is what its statements have to know of the function, or of the func literal, that is gone through.
 type function struct {
-	gives *typ  // nil: nothing comes of it
+	gives *Type // nil: nothing comes of it
 	loops []int // how many breaks each for about has of its own by now, the innermost last
 }
 
@@ -38,10 +46,10 @@ type fault struct {
 
 func newChecker() *checker {
 	return &checker{
-		types:     table{known: map[string]*typ{}},
+		types:     table{known: map[string]*Type{}},
 		declared:  map[string]int{},
-		structs:   map[string]*typ{},
-		functions: map[string]*head{},
+		structs:   map[string]*Type{},
+		functions: map[string]*Head{},
 	}
 }
 
@@ -56,7 +64,7 @@ func (c *checker) close() {
 }
 
 // declare makes a name that n declares a variable of the innermost scope.
-func (c *checker) declare(n api.Node, t *typ) {
+func (c *checker) declare(n api.Node, t *Type) {
 	inner := c.scopes[len(c.scopes)-1]
 	if inner[n.Text] != nil {
 		panic(fault{n.At, api.ErrTwice})
@@ -65,7 +73,7 @@ func (c *checker) declare(n api.Node, t *typ) {
 }
 
 // variable answers the type of the variable that has the name; nil: none has.
-func (c *checker) variable(name string) *typ {
+func (c *checker) variable(name string) *Type {
 	for i := len(c.scopes) - 1; i >= 0; i-- {
 		if t := c.scopes[i][name]; t != nil {
 			return t

@@ -1,4 +1,4 @@
-package check
+package typing
 
 import (
 	"mullion/api"
@@ -6,7 +6,7 @@ import (
 )
 
 // program checks a program, and answers the heads of its functions in their order. What is within functions comes last, as all declarations are known there.
-func (c *checker) program(n api.Node) []*head {
+func (c *checker) program(n api.Node) []*Head {
 	for _, d := range n.List {
 		c.declareName(d)
 	}
@@ -15,7 +15,7 @@ func (c *checker) program(n api.Node) []*head {
 			c.structs[d.Text] = c.structType(d)
 		}
 	}
-	var heads []*head
+	var heads []*Head
 	for _, d := range n.List {
 		if d.Kind == node.Func {
 			heads = append(heads, c.head(d))
@@ -40,8 +40,8 @@ func (c *checker) declareName(d api.Node) {
 }
 
 // structType answers the type that is declared; of struct types only those ahead may be named in it.
-func (c *checker) structType(d api.Node) *typ {
-	t := typ{kind: api.TStruct, name: d.Text}
+func (c *checker) structType(d api.Node) *Type {
+	t := Type{kind: api.TStruct, name: d.Text}
 	seen := map[string]int{}
 	for _, f := range d.List {
 		if seen[f.Text] > 0 {
@@ -55,27 +55,27 @@ func (c *checker) structType(d api.Node) *typ {
 }
 
 // head answers the head of a function that is declared. Two parameters of one name are found with its body.
-func (c *checker) head(d api.Node) *head {
-	h := &head{name: d.Text, typeParams: c.newTypeParams(d)}
+func (c *checker) head(d api.Node) *Head {
+	h := &Head{Name: d.Text, TypeParams: c.newTypeParams(d)}
 	for _, p := range d.List[1].List {
 		if c.typeParams[p.Text] != nil {
 			panic(fault{p.At, api.ErrTwice})
 		}
 	}
-	h.takes, h.gives = c.signature(d.List[1], d.List[2])
+	h.Takes, h.Gives = c.signature(d.List[1], d.List[2])
 	return h
 }
 
 // newTypeParams makes the type parameters of a function those that are known, and answers them in their order.
-func (c *checker) newTypeParams(d api.Node) []*typ {
-	c.typeParams = map[string]*typ{}
-	var list []*typ
+func (c *checker) newTypeParams(d api.Node) []*Type {
+	c.typeParams = map[string]*Type{}
+	var list []*Type
 	for _, p := range d.List[0].List {
 		// A type's name could not tell it from what has that name already.
 		if isGiven(p.Text) || c.structs[p.Text] != nil || c.typeParams[p.Text] != nil {
 			panic(fault{p.At, api.ErrTwice})
 		}
-		t := c.types.one(typ{kind: api.TParam, name: p.Text, con: int(p.N)})
+		t := c.types.one(Type{kind: api.TParam, name: p.Text, con: int(p.N)})
 		c.typeParams[p.Text] = t
 		list = append(list, t)
 	}
@@ -83,7 +83,7 @@ func (c *checker) newTypeParams(d api.Node) []*typ {
 }
 
 // signature answers what a function with these parameters and this result takes and gives.
-func (c *checker) signature(params, result api.Node) (takes []*typ, gives *typ) {
+func (c *checker) signature(params, result api.Node) (takes []*Type, gives *Type) {
 	for _, p := range params.List {
 		takes = append(takes, c.written(p.List[0]))
 	}
@@ -99,7 +99,7 @@ func (c *checker) main(n api.Node) {
 	if main == nil {
 		panic(fault{n.At, api.ErrName})
 	}
-	if len(main.typeParams)+len(main.takes) > 0 || main.gives != nil {
+	if len(main.TypeParams)+len(main.Takes) > 0 || main.Gives != nil {
 		panic(fault{n.At, api.ErrType})
 	}
 }
@@ -108,11 +108,13 @@ func (c *checker) main(n api.Node) {
 func (c *checker) functionBody(d api.Node) {
 	c.newTypeParams(d)
 	h := c.functions[d.Text]
-	c.body(d.List[1], h.takes, h.gives, d.List[3])
+	c.needs = nil
+	c.body(d.List[1], h.Takes, h.Gives, d.List[3])
+	h.Needs = c.needs
 }
 
 // body checks a block as that of a function with these parameters. What is outside of it is known in it, but no loops are.
-func (c *checker) body(params api.Node, takes []*typ, gives *typ, block api.Node) {
+func (c *checker) body(params api.Node, takes []*Type, gives *Type, block api.Node) {
 	outside := c.within
 	c.within = function{gives: gives}
 	c.open()
@@ -127,24 +129,24 @@ func (c *checker) body(params api.Node, takes []*typ, gives *typ, block api.Node
 }
 
 // written answers the type that a node tells.
-func (c *checker) written(n api.Node) *typ {
+func (c *checker) written(n api.Node) *Type {
 	switch n.Kind {
 	case node.TypeName:
 		return c.typeNamed(n)
 	case node.SliceType:
-		return c.sound(n, c.types.one(typ{kind: api.TSlice, parts: []*typ{c.written(n.List[0])}}))
+		return c.sound(n, c.types.one(Type{kind: api.TSlice, parts: []*Type{c.written(n.List[0])}}))
 	case node.ChanType:
-		return c.sound(n, c.types.one(typ{kind: api.TChan, parts: []*typ{c.written(n.List[0])}}))
+		return c.sound(n, c.types.one(Type{kind: api.TChan, parts: []*Type{c.written(n.List[0])}}))
 	}
-	var parts []*typ
+	var parts []*Type
 	for _, p := range n.List {
 		parts = append(parts, c.written(p))
 	}
-	return c.sound(n, c.types.one(typ{kind: api.TFunc, parts: parts, hasRes: n.N == 1}))
+	return c.sound(n, c.types.one(Type{kind: api.TFunc, parts: parts, hasRes: n.N == 1}))
 }
 
 // typeNamed answers the type whose name a node has.
-func (c *checker) typeNamed(n api.Node) *typ {
+func (c *checker) typeNamed(n api.Node) *Type {
 	if c.variable(n.Text) == nil {
 		if kind := plainKind(n.Text); kind != 0 {
 			return c.types.plain(kind)
@@ -160,7 +162,7 @@ func (c *checker) typeNamed(n api.Node) *typ {
 }
 
 // sound answers t, which n is or has, and gives up if it is beyond the limits of types.
-func (c *checker) sound(n api.Node, t *typ) *typ {
+func (c *checker) sound(n api.Node, t *Type) *Type {
 	if t == nil || !t.isSound() {
 		panic(fault{n.At, api.ErrLarge})
 	}

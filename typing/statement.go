@@ -1,4 +1,4 @@
-package check
+package typing
 
 import (
 	"mullion/api"
@@ -55,7 +55,7 @@ func (c *checker) statement(n api.Node) bool {
 }
 
 // target answers the type of what is assigned to: a variable, or what is kept in one, or in a slice.
-func (c *checker) target(n api.Node) *typ {
+func (c *checker) target(n api.Node) *Type {
 	switch n.Kind {
 	case node.Name:
 		if t := c.variable(n.Text); t != nil {
@@ -132,7 +132,7 @@ func (c *checker) start(call api.Node) {
 }
 
 // channel answers what the channel holds that n is.
-func (c *checker) channel(n api.Node) *typ {
+func (c *checker) channel(n api.Node) *Type {
 	t := c.typeOf(n)
 	if t.kind != api.TChan {
 		panic(fault{n.At, api.ErrType})

@@ -1,4 +1,4 @@
-package check
+package typing
 
 import (
 	"mullion/api"
@@ -6,7 +6,7 @@ import (
 )
 
 // isIn tells whether a constant is a number of a whole type; of a type parameter, whether it is one of each type that this may stand for.
-func (v value) isIn(t *typ) bool {
+func (v value) isIn(t *Type) bool {
 	if t.kind == api.TParam {
 		_, e := konst.Fits(api.TInt8, v.neg, v.size)
 		return e == api.OK && !v.neg
@@ -71,7 +71,7 @@ func (c *checker) arithmetic(n api.Node, a, b value) value {
 }
 
 // common answers the one type of both operands of n: a constant takes that of what stands beside it.
-func (c *checker) common(n api.Node, a, b value) *typ {
+func (c *checker) common(n api.Node, a, b value) *Type {
 	if a.isConstant {
 		t := c.settle(n.List[1], b)
 		c.fit(n.List[0], a, t)

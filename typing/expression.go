@@ -1,4 +1,4 @@
-package check
+package typing
 
 import (
 	"mullion/api"
@@ -7,14 +7,14 @@ import (
 
 // value is what an expression is: something of a type; or a constant, which has none; or, as all that comes of some calls, nothing.
 type value struct {
-	t          *typ // nil: it has none
+	t          *Type // nil: it has none
 	isConstant bool
 	neg        bool // a constant is size, or, with neg, -size
 	size       uint64
 }
 
 // typed answers something of a type; nothing, if that is nil.
-func typed(t *typ) value {
+func typed(t *Type) value {
 	return value{t: t}
 }
 
@@ -49,12 +49,12 @@ func (c *checker) expression(n api.Node) value {
 }
 
 // typeOf answers the type of an expression, where none is wanted.
-func (c *checker) typeOf(n api.Node) *typ {
+func (c *checker) typeOf(n api.Node) *Type {
 	return c.settle(n, c.expression(n))
 }
 
 // settle answers the type that v, which n is, has where none is wanted.
-func (c *checker) settle(n api.Node, v value) *typ {
+func (c *checker) settle(n api.Node, v value) *Type {
 	if v.isConstant {
 		v = c.fit(n, v, c.types.plain(api.TInt64))
 	}
@@ -65,12 +65,12 @@ func (c *checker) settle(n api.Node, v value) *typ {
 }
 
 // want asks for an expression that is assignable to t.
-func (c *checker) want(n api.Node, t *typ) {
+func (c *checker) want(n api.Node, t *Type) {
 	c.fit(n, c.expression(n), t)
 }
 
 // fit answers v, which n is, as something of the type t, and gives up if it is not assignable to that.
-func (c *checker) fit(n api.Node, v value, t *typ) value {
+func (c *checker) fit(n api.Node, v value, t *Type) value {
 	if v.isConstant && t.isWhole() {
 		if !v.isIn(t) {
 			panic(fault{n.At, api.ErrConst})
@@ -84,12 +84,12 @@ func (c *checker) fit(n api.Node, v value, t *typ) value {
 }
 
 // wantWhole asks for an expression of a whole type, and answers it.
-func (c *checker) wantWhole(n api.Node) *typ {
+func (c *checker) wantWhole(n api.Node) *Type {
 	return c.whole(n, c.typeOf(n))
 }
 
 // whole answers t, which n has, and gives up if it is no whole type.
-func (c *checker) whole(n api.Node, t *typ) *typ {
+func (c *checker) whole(n api.Node, t *Type) *Type {
 	if !t.isWhole() {
 		panic(fault{n.At, api.ErrType})
 	}
@@ -97,19 +97,20 @@ func (c *checker) whole(n api.Node, t *typ) *typ {
 }
 
 // name answers the type of a variable, or of a function as a value.
-func (c *checker) name(n api.Node) *typ {
+func (c *checker) name(n api.Node) *Type {
 	if t := c.variable(n.Text); t != nil {
 		return t
 	}
 	h := c.functions[n.Text]
-	if h == nil || len(h.typeParams) > 0 {
+	if h == nil || len(h.TypeParams) > 0 {
 		panic(c.noSuch(n))
 	}
-	return c.sound(n, c.types.function(h.takes, h.gives))
+	c.needs = append(c.needs, Need{Of: h})
+	return c.sound(n, c.types.function(h.Takes, h.Gives))
 }
 
 // field answers the type of x.f, of which x has the type t.
-func (c *checker) field(n api.Node, t *typ) *typ {
+func (c *checker) field(n api.Node, t *Type) *Type {
 	if t.kind != api.TStruct {
 		panic(fault{n.At, api.ErrType})
 	}
@@ -122,7 +123,7 @@ func (c *checker) field(n api.Node, t *typ) *typ {
 }
 
 // item answers the type of x[i].
-func (c *checker) item(n api.Node) *typ {
+func (c *checker) item(n api.Node) *Type {
 	t := c.typeOf(n.List[0])
 	if t.kind != api.TSlice {
 		panic(fault{n.At, api.ErrType})
@@ -136,7 +137,7 @@ func (c *checker) item(n api.Node) *typ {
 }
 
 // literal answers the type of P{..}.
-func (c *checker) literal(n api.Node) *typ {
+func (c *checker) literal(n api.Node) *Type {
 	t := c.structs[n.Text]
 	if t == nil || c.variable(n.Text) != nil {
 		panic(c.noSuch(n))
@@ -151,7 +152,7 @@ func (c *checker) literal(n api.Node) *typ {
 }
 
 // funcLiteral answers the type of a func literal.
-func (c *checker) funcLiteral(n api.Node) *typ {
+func (c *checker) funcLiteral(n api.Node) *Type {
 	takes, gives := c.signature(n.List[0], n.List[1])
 	t := c.sound(n, c.types.function(takes, gives))
 	c.body(n.List[0], takes, gives, n.List[2])
@@ -159,7 +160,7 @@ func (c *checker) funcLiteral(n api.Node) *typ {
 }
 
 // making answers the type of a make.
-func (c *checker) making(n api.Node) *typ {
+func (c *checker) making(n api.Node) *Type {
 	t := c.written(n.List[0])
 	if t.kind != api.TSlice && t.kind != api.TChan {
 		panic(fault{n.At, api.ErrType})
